@@ -1,0 +1,70 @@
+// Package burnish: programs for a small board, assembled, sent over a bad line, and burnt: see DOC.md.
+package burnish
+
+import (
+	"burnish/api"
+	"burnish/instruction"
+)
+
+// Decode tells the instruction with which bytes begin (P3).
+func Decode(code string, at int) (string, int) { return instruction.Decode(code, at) }
+
+// Assemble makes an image out of a source (P4).
+func Assemble(source string) (api.Image, api.Errno, int) { return api.Image{}, api.OK, 0 }
+
+// Listing lists an image's instructions (P5).
+func Listing(i api.Image) ([]string, api.Errno) { return nil, api.OK }
+
+// Frame makes a frame of a message (P6).
+func Frame(message string) (string, api.Errno) { return "", api.OK }
+
+// Ear hears frames.
+type Ear struct{}
+
+// Listen gives an ear that has heard nothing.
+func Listen() *Ear { return nil }
+
+// Hear gives the messages that are whole (P6).
+func (e *Ear) Hear(bytes string) []string { return nil }
+
+// Board burns pages.
+type Board struct{}
+
+// NewBoard gives a board without a program (P7).
+func NewBoard() *Board { return nil }
+
+// Hear answers messages (P7).
+func (b *Board) Hear(bytes string) string { return "" }
+
+// Cut lets the power fail (P8).
+func (b *Board) Cut(strokes int, mask int) {}
+
+// Boot lets the board begin (P8).
+func (b *Board) Boot() {}
+
+// On tells whether the board is on (P8).
+func (b *Board) On() bool { return false }
+
+// Flash tells all bytes (P8).
+func (b *Board) Flash() string { return "" }
+
+// Burnt tells which pages are burnt (P8).
+func (b *Board) Burnt() int { return 0 }
+
+// Host sends an image.
+type Host struct{}
+
+// NewHost begins to send an image (P9).
+func NewHost(i api.Image, session int) (*Host, api.Errno) { return nil, api.OK }
+
+// Say tells what is to be sent (P10).
+func (h *Host) Say() string { return "" }
+
+// Hear takes answers (P10).
+func (h *Host) Hear(bytes string) {}
+
+// Tick says that time has passed (P10).
+func (h *Host) Tick() {}
+
+// State tells how far the host is (P9).
+func (h *Host) State() int { return 0 }
