@@ -3,6 +3,8 @@ package burnish
 
 import (
 	"burnish/api"
+	"burnish/assembler"
+	"burnish/image"
 	"burnish/instruction"
 )
 
@@ -10,10 +12,10 @@ import (
 func Decode(code string, at int) (string, int) { return instruction.Decode(code, at) }
 
 // Assemble makes an image out of a source (P4).
-func Assemble(source string) (api.Image, api.Errno, int) { return api.Image{}, api.OK, 0 }
+func Assemble(source string) (api.Image, api.Errno, int) { return assembler.Assemble(source) }
 
 // Listing lists an image's instructions (P5).
-func Listing(i api.Image) ([]string, api.Errno) { return nil, api.OK }
+func Listing(i api.Image) ([]string, api.Errno) { return image.Listing(i) }
 
 // Frame makes a frame of a message (P6).
 func Frame(message string) (string, api.Errno) { return "", api.OK }

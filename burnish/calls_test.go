@@ -2,6 +2,7 @@ package burnish_test
 
 import (
 	"math"
+	"math/rand"
 	"reflect"
 	"slices"
 	"strings"
@@ -44,6 +45,30 @@ func TestDecodeEndsWhateverItIsGiven(t *testing.T) {
 			if size < 0 || size > 3 || size > len(text) || (line == "") != (size == 0) {
 				t.Errorf("P1: Decode(% X, %d) = %q, %d", text, number, line, size)
 			}
+		}
+	}
+}
+
+// Words and signs in any order: the answer is an image, or an error of P4 with
+// a line that there is.
+func TestAssembleEndsWhateverItIsGiven(t *testing.T) {
+	random := rand.New(rand.NewSource(2))
+	parts := strings.Split("mov|a|,|#|@|r0|+|-|$|x|x:|:|equ|org|db|dw|ds|1|0x10|65535|99999|/|c|\n|\n|;| | |sjmp|nop|dptr|ninechars|(|\xFF|~|1x", "|")
+	for range 5000 {
+		text := ""
+		for range random.Intn(12) {
+			text += parts[random.Intn(len(parts))] + " "[:random.Intn(2)]
+		}
+		image, errno, line := burnish.Assemble(text)
+		if errno == api.OK {
+			if line != 0 || len(image.Bytes) != 1024 || len(image.Laid) != 1024 || len(image.Starts) != 1024 {
+				t.Fatalf("P1: Assemble(%q): no whole answer, line %d", text, line)
+			}
+			continue
+		}
+		lines := strings.Count(text, "\n") + 1
+		if errno < api.ErrSyntax || errno > api.ErrOverlap || line < 1 || line > lines || !reflect.DeepEqual(image, api.Image{}) {
+			t.Fatalf("P1: Assemble(%q): %d, %d", text, errno, line)
 		}
 	}
 }
@@ -126,6 +151,25 @@ func TestOtherCallsAnswerTheSameAgain(t *testing.T) {
 			t.Errorf("P2: Frame(%.20q) answers one thing, then another", text)
 		}
 	}
+}
+
+func TestAssembleBesideOthers(t *testing.T) {
+	sources := []string{"", "x: nop\nsjmp x", "x equ 5\ndb x", "sjmp x", "x:\nx:", "org 1024"}
+	var askers sync.WaitGroup
+	for _, source := range sources {
+		image, errno, line := burnish.Assemble(source)
+		for range 4 {
+			askers.Go(func() {
+				for range 20 {
+					imageAgain, errnoAgain, lineAgain := burnish.Assemble(source)
+					if !reflect.DeepEqual(image, imageAgain) || errno != errnoAgain || line != lineAgain {
+						t.Errorf("P2: Assemble(%q) answers another thing beside others", source)
+					}
+				}
+			})
+		}
+	}
+	askers.Wait()
 }
 
 func copyOf(i api.Image) api.Image {

@@ -14,7 +14,7 @@ func Decode(code string, at int) (string, int) {
 	if !known {
 		return "", 0
 	}
-	name, operands := r.parts(code[0])
+	name, operands := r.parts(code[0], kindsByName())
 	size, whole := readOperands(operands, code)
 	if !whole {
 		return "", 0
@@ -32,7 +32,7 @@ func readOperands(operands []operand, code string) (int, bool) {
 	table := ways()
 	r := reading{rest: code[1:]}
 	for i := range operands {
-		operands[i].added = table[operands[i].kind].adds(&r)
+		operands[i].added = table[operands[i].kind].read(&r)
 	}
 	return len(code) - len(r.rest), !r.short
 }

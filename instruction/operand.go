@@ -2,11 +2,11 @@ package instruction
 
 import "strconv"
 
-// kind is what the table has at an operand's place.
-type kind int
+// Kind is what the table has at an operand's place.
+type Kind int
 
 const (
-	kindA kind = iota
+	kindA Kind = iota
 	kindAB
 	kindC
 	kindDPTR
@@ -26,8 +26,8 @@ const (
 	kindCount
 )
 
-func kindsByName() map[string]kind {
-	return map[string]kind{
+func kindsByName() map[string]Kind {
+	return map[string]Kind{
 		"A":       kindA,
 		"AB":      kindAB,
 		"C":       kindC,
@@ -48,32 +48,34 @@ func kindsByName() map[string]kind {
 	}
 }
 
-// way is what operands of one kind have in common: what they add behind the
-// code, as it is read back, and how they are written in a line.
+// way is what operands of one kind have in common: what they add to an
+// instruction's bytes, how that is read back, and how they are written in a
+// line.
 type way struct {
-	adds    func(*reading) uint16
+	adds    func(*laying, int)
+	read    func(*reading) uint16
 	written func(operand) string
 }
 
 func ways() [kindCount]way {
 	return [kindCount]way{
-		kindA:       {(*reading).nothing, operand.itself},
-		kindAB:      {(*reading).nothing, operand.itself},
-		kindC:       {(*reading).nothing, operand.itself},
-		kindDPTR:    {(*reading).nothing, operand.itself},
-		kindAtADPTR: {(*reading).nothing, operand.itself},
-		kindAtAPC:   {(*reading).nothing, operand.itself},
-		kindAtDPTR:  {(*reading).nothing, operand.itself},
-		kindAtR:     {(*reading).nothing, operand.numbered},
-		kindR:       {(*reading).nothing, operand.numbered},
-		kindByte:    {(*reading).oneByte, operand.byteBehindHash},
-		kindWord:    {(*reading).twoBytes, operand.wordBehindHash},
-		kindDir:     {(*reading).oneByte, operand.asByte},
-		kindBit:     {(*reading).oneByte, operand.asByte},
-		kindNotBit:  {(*reading).oneByte, operand.byteBehindSlash},
-		kindAddr:    {(*reading).twoBytes, operand.asWord},
-		kindRel:     {(*reading).oneByte, operand.nearPlace},
-		kindPage:    {(*reading).oneByte, operand.placeInPage},
+		kindA:       {(*laying).nothing, (*reading).nothing, operand.itself},
+		kindAB:      {(*laying).nothing, (*reading).nothing, operand.itself},
+		kindC:       {(*laying).nothing, (*reading).nothing, operand.itself},
+		kindDPTR:    {(*laying).nothing, (*reading).nothing, operand.itself},
+		kindAtADPTR: {(*laying).nothing, (*reading).nothing, operand.itself},
+		kindAtAPC:   {(*laying).nothing, (*reading).nothing, operand.itself},
+		kindAtDPTR:  {(*laying).nothing, (*reading).nothing, operand.itself},
+		kindAtR:     {(*laying).register, (*reading).nothing, operand.numbered},
+		kindR:       {(*laying).register, (*reading).nothing, operand.numbered},
+		kindByte:    {(*laying).shortNumber, (*reading).oneByte, operand.byteBehindHash},
+		kindWord:    {(*laying).longNumber, (*reading).twoBytes, operand.wordBehindHash},
+		kindDir:     {(*laying).address, (*reading).oneByte, operand.asByte},
+		kindBit:     {(*laying).address, (*reading).oneByte, operand.asByte},
+		kindNotBit:  {(*laying).address, (*reading).oneByte, operand.byteBehindSlash},
+		kindAddr:    {(*laying).place, (*reading).twoBytes, operand.asWord},
+		kindRel:     {(*laying).nearPlace, (*reading).oneByte, operand.nearPlace},
+		kindPage:    {(*laying).placeInPage, (*reading).oneByte, operand.placeInPage},
 	}
 }
 
@@ -103,7 +105,7 @@ func (r *reading) twoBytes() uint16 {
 
 // operand is all that the writing of an operand hangs on.
 type operand struct {
-	kind     kind
+	kind     Kind
 	name     string // of the kind, as the table has it
 	codeBits byte   // the code's bits that are an operand's own
 	added    uint16 // the number in the bytes that it added
@@ -114,9 +116,9 @@ func (o operand) itself() string { return o.name }
 
 func (o operand) numbered() string { return o.name + strconv.Itoa(int(o.codeBits)) }
 
-func (o operand) asByte() string { return hex(o.added, 2) }
+func (o operand) asByte() string { return "0x" + Hex(o.added, 2) }
 
-func (o operand) asWord() string { return hex(o.added, 4) }
+func (o operand) asWord() string { return "0x" + Hex(o.added, 4) }
 
 func (o operand) byteBehindHash() string { return "#" + o.asByte() }
 
@@ -126,20 +128,27 @@ func (o operand) byteBehindSlash() string { return "/" + o.asByte() }
 
 func (o operand) nearPlace() string {
 	distance := int8(o.added)
-	return hex(o.behind+uint16(distance), 4)
+	return "0x" + Hex(o.behind+uint16(distance), 4)
 }
+
+// The highest five bits of a place tell its page.
+const (
+	pageBits     = 0xF800
+	placesOfPage = 0x0800
+)
 
 func (o operand) placeInPage() string {
-	page := o.behind & 0xF800
-	return hex(page|uint16(o.codeBits)<<3|o.added, 4)
+	page := o.behind & pageBits
+	return "0x" + Hex(page|uint16(o.codeBits)<<3|o.added, 4)
 }
 
-func hex(number uint16, count int) string {
+// Hex gives so many hexadecimal digits of a number, as listings have them.
+func Hex(number uint16, count int) string {
 	const digits = "0123456789ABCDEF"
 	text := make([]byte, count)
 	for i := count - 1; i >= 0; i-- {
 		text[i] = digits[number%16]
 		number /= 16
 	}
-	return "0x" + string(text)
+	return string(text)
 }

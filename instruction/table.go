@@ -67,12 +67,11 @@ func find(code byte) (row, bool) {
 
 // parts gives the instruction's name and its operands, with what is known of
 // them by the code alone.
-func (r row) parts(code byte) (string, []operand) {
+func (r row) parts(code byte, kinds map[string]Kind) (string, []operand) {
 	name, list, some := strings.Cut(r.text, " ")
 	if !some {
 		return name, nil
 	}
-	kinds := kindsByName()
 	var operands []operand
 	for _, text := range strings.Split(list, ",") {
 		operands = append(operands, operand{kind: kinds[text], name: text, codeBits: code & r.free})

@@ -23,7 +23,7 @@ func TestNoCodeStandsTwice(t *testing.T) {
 func TestOperandsHaveNamesOfKinds(t *testing.T) {
 	kinds := kindsByName()
 	for _, r := range rows() {
-		_, operands := r.parts(r.code)
+		_, operands := r.parts(r.code, kinds)
 		for _, o := range operands {
 			if _, known := kinds[o.name]; !known {
 				t.Errorf("P3: %q: %q is no kind", r.text, o.name)
@@ -37,7 +37,7 @@ func TestEveryKindHasItsWay(t *testing.T) {
 		t.Errorf("P3: %d names for %d kinds", len(kindsByName()), kindCount)
 	}
 	for k, w := range ways() {
-		if w.adds == nil || w.written == nil {
+		if w.adds == nil || w.read == nil || w.written == nil {
 			t.Errorf("P3: kind %d has no way", k)
 		}
 	}
