@@ -6,6 +6,7 @@ import (
 	"burnish/assembler"
 	"burnish/image"
 	"burnish/instruction"
+	"burnish/line"
 )
 
 // Decode tells the instruction with which bytes begin (P3).
@@ -18,16 +19,16 @@ func Assemble(source string) (api.Image, api.Errno, int) { return assembler.Asse
 func Listing(i api.Image) ([]string, api.Errno) { return image.Listing(i) }
 
 // Frame makes a frame of a message (P6).
-func Frame(message string) (string, api.Errno) { return "", api.OK }
+func Frame(message string) (string, api.Errno) { return line.Frame(message) }
 
 // Ear hears frames.
-type Ear struct{}
+type Ear struct{ ear line.Ear }
 
 // Listen gives an ear that has heard nothing.
-func Listen() *Ear { return nil }
+func Listen() *Ear { return new(Ear) }
 
 // Hear gives the messages that are whole (P6).
-func (e *Ear) Hear(bytes string) []string { return nil }
+func (e *Ear) Hear(bytes string) []string { return e.ear.Hear(bytes) }
 
 // Board burns pages.
 type Board struct{}
