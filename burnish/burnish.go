@@ -4,6 +4,7 @@ package burnish
 import (
 	"burnish/api"
 	"burnish/assembler"
+	"burnish/board"
 	"burnish/image"
 	"burnish/instruction"
 	"burnish/line"
@@ -31,28 +32,28 @@ func Listen() *Ear { return new(Ear) }
 func (e *Ear) Hear(bytes string) []string { return e.ear.Hear(bytes) }
 
 // Board burns pages.
-type Board struct{}
+type Board struct{ board board.Board }
 
 // NewBoard gives a board without a program (P7).
-func NewBoard() *Board { return nil }
+func NewBoard() *Board { return &Board{board.New()} }
 
 // Hear answers messages (P7).
-func (b *Board) Hear(bytes string) string { return "" }
+func (b *Board) Hear(bytes string) string { return b.board.Hear(bytes) }
 
 // Cut lets the power fail (P8).
-func (b *Board) Cut(strokes int, mask int) {}
+func (b *Board) Cut(strokes int, mask int) { b.board.Cut(strokes, mask) }
 
 // Boot lets the board begin (P8).
-func (b *Board) Boot() {}
+func (b *Board) Boot() { b.board.Boot() }
 
 // On tells whether the board is on (P8).
-func (b *Board) On() bool { return false }
+func (b *Board) On() bool { return b.board.On() }
 
 // Flash tells all bytes (P8).
-func (b *Board) Flash() string { return "" }
+func (b *Board) Flash() string { return b.board.Flash() }
 
 // Burnt tells which pages are burnt (P8).
-func (b *Board) Burnt() int { return 0 }
+func (b *Board) Burnt() int { return b.board.Burnt() }
 
 // Host sends an image.
 type Host struct{}
