@@ -5,6 +5,7 @@ import (
 	"burnish/api"
 	"burnish/assembler"
 	"burnish/board"
+	"burnish/host"
 	"burnish/image"
 	"burnish/instruction"
 	"burnish/line"
@@ -56,19 +57,25 @@ func (b *Board) Flash() string { return b.board.Flash() }
 func (b *Board) Burnt() int { return b.board.Burnt() }
 
 // Host sends an image.
-type Host struct{}
+type Host struct{ host host.Host }
 
 // NewHost begins to send an image (P9).
-func NewHost(i api.Image, session int) (*Host, api.Errno) { return nil, api.OK }
+func NewHost(i api.Image, session int) (*Host, api.Errno) {
+	h := new(Host)
+	if errno := h.host.Begin(i, session); errno != api.OK {
+		return nil, errno
+	}
+	return h, api.OK
+}
 
 // Say tells what is to be sent (P10).
-func (h *Host) Say() string { return "" }
+func (h *Host) Say() string { return h.host.Say() }
 
 // Hear takes answers (P10).
-func (h *Host) Hear(bytes string) {}
+func (h *Host) Hear(bytes string) { h.host.Hear(bytes) }
 
 // Tick says that time has passed (P10).
-func (h *Host) Tick() {}
+func (h *Host) Tick() { h.host.Tick() }
 
 // State tells how far the host is (P9).
-func (h *Host) State() int { return 0 }
+func (h *Host) State() int { return h.host.State() }
